@@ -1,0 +1,1 @@
+"""Lanepacks: rows of a small machine led over to packs of lanes."""
