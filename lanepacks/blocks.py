@@ -18,7 +18,8 @@ OTHER_PARTS = {
     "put": ("place", "row", "row"),
 }
 
-WORDLESS = ("store", "put")
+READERS = ("load", "take")
+WRITERS = ("store", "put")
 
 
 def parts_of(deed):
@@ -30,20 +31,36 @@ def parts_of(deed):
 
 def makes_word(row):
     """Whether a row, itself in the stead of its number, makes a word."""
-    return row[0] not in WORDLESS
+    return row[0] not in WRITERS
 
 
-def fits(part, thing, ahead):
-    """Whether a thing may stand as a part of a row behind the rows ahead."""
+def place_of(row):
+    """The number of the cell that a row reads or writes, None where it does neither."""
+    return row[1] if row[0] in READERS or row[0] in WRITERS else None
+
+
+def names_of(row):
+    """The new list of the rows that a row, itself in the stead of its number, names."""
+    deed, *rest = row
+    return [given for part, given in zip(parts_of(deed), rest) if part == "row"]
+
+
+def may_name(thing, able):
+    """Whether a thing is a row's number of which `able`, with a truth for each row ahead, tells True."""
+    return is_whole(thing, 0, len(able) - 1) and able[thing]
+
+
+def fits(part, thing, able):
+    """Whether a thing may stand as a part of a row; `able` tells which rows ahead may be named."""
     if part == "word":
         return is_whole(thing, 0, MOST_WORD)
     if part == "place":
         return is_whole(thing, 0, MOST_PLACE)
-    return is_whole(thing, 0, len(ahead) - 1) and makes_word(ahead[thing])
+    return may_name(thing, able)
 
 
-def is_row(thing, ahead):
-    """Whether a thing is a row behind the rows ahead, which are known to be rows."""
+def is_row(thing, able):
+    """Whether a thing is a row; `able` tells, for each row ahead, whether it may be named."""
     if not isinstance(thing, tuple) or len(thing) == 0:
         return False
     deed, *rest = thing
@@ -51,7 +68,7 @@ def is_row(thing, ahead):
     parts = parts_of(deed) if isinstance(deed, str) else None
     if parts is None or len(parts) != len(rest):
         return False
-    return all([fits(part, given, ahead) for part, given in zip(parts, rest)])
+    return all([fits(part, given, able) for part, given in zip(parts, rest)])
 
 
 def is_block(thing):
@@ -63,10 +80,12 @@ def is_block(thing):
         return False
     if not isinstance(rows, tuple) or len(rows) > MOST_ROWS:
         return False
-    # In order, up to the first that is none: what a row names is looked at as a row.
-    for at, row in enumerate(rows):
-        if not is_row(row, rows[:at]):
+    able = []
+    # In order, up to the first that is none: only of a row it can be told whether it makes a word.
+    for row in rows:
+        if not is_row(row, able):
             return False
+        able.append(makes_word(row))
     return True
 
 
@@ -87,5 +106,4 @@ def makes(block, row):
 
 def named(block, row):
     """The new list of the rows that a row names, in order, as often as it does."""
-    deed, *rest = row_at(block, row)
-    return [given for part, given in zip(parts_of(deed), rest) if part == "row"]
+    return names_of(row_at(block, row))

@@ -7,6 +7,7 @@ from collections import namedtuple
 from lanepacks.blocks import is_block, makes, named
 from lanepacks.errors import NoBlock, NoRow
 from lanepacks.words import DEEDS
+from things import ODD
 
 # Rows 0 to 5; row 4 makes no word, row 5 none either.
 AHEAD = (("number", 5), ("load", 0), ("plus", 0, 1), ("number", 999), ("store", 1, 2), ("put", 2, 0, 1))
@@ -20,24 +21,6 @@ KINDS += [
     (("take", 9, 3, 1), True, [3, 1]),
     (("store", 9, 2), False, [2]),
     (("put", 9, 3, 1), False, [3, 1]),
-]
-
-
-class Odd:
-    """A thing that can't be compared, hashed, counted or shown."""
-
-    __hash__ = None
-
-    def refuse(self, *args):
-        raise RuntimeError
-
-    __eq__ = __ne__ = __lt__ = __le__ = __gt__ = __ge__ = refuse
-    __len__ = __iter__ = __getitem__ = __bool__ = __int__ = __index__ = __repr__ = refuse
-
-
-ODD = [
-    None, True, False, "", "0", "ab", b"", b"\x00", [], [0], (), (0,), ((0,),), {}, {0: 0}, set(), {0},
-    frozenset(), range(2), object(), int, len, Odd(), 10 ** 40, -(10 ** 40),
 ]
 
 # Where a text may stand, the things above but texts that are deeds, and near misses.

@@ -95,6 +95,12 @@ class Code(unittest.TestCase):
         for where, node in nodes((ast.For, ast.While)):
             self.assertEqual(node.orelse, [], where)
 
+    def test_stars_stand_only_in_what_is_given(self):
+        for where, node in nodes(ast.Starred):
+            self.assertIsInstance(node.ctx, ast.Store, where)
+        for where, node in nodes(ast.Call):
+            self.assertNotIn(None, [keyword.arg for keyword in node.keywords], where)
+
     def test_imports(self):
         for where, node in nodes(ast.ImportFrom):
             self.assertEqual(node.level, 0, where)
