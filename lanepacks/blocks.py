@@ -45,6 +45,12 @@ def names_of(row):
     return [given for part, given in zip(parts_of(deed), rest) if part == "row"]
 
 
+def with_names(row, names):
+    """The row with these numbers in the stead of those it names, in order."""
+    # Whatever the deed, what is named stands last in a row.
+    return row[:len(row) - len(names)] + tuple(names)
+
+
 def may_name(thing, able):
     """Whether a thing is a row's number of which `able`, with a truth for each row ahead, tells True."""
     return is_whole(thing, 0, len(able) - 1) and able[thing]

@@ -74,11 +74,11 @@ def nodes_of(block, plan):
     return sorted(list(plan) + [(row,) for row in rows_alone(block, plan)])
 
 
-def waits_of(block, nodes):
+def waits_of(pairs, nodes):
     """The dict of the lists, for each node, of the other nodes that must be ahead of it."""
     node_of = {row: node for node in nodes for row in node}
     waits = {node: [] for node in nodes}
-    for first, second in must_pairs(block):
+    for first, second in pairs:
         if node_of[first] != node_of[second]:
             waits[node_of[second]].append(node_of[first])
     return waits
@@ -92,10 +92,9 @@ def next_node(nodes, waits, settled):
     return None
 
 
-def ordered(block, plan):
-    """The new list of the nodes as they are done; None, where the plan is not valid."""
-    nodes = nodes_of(block, plan)
-    waits = waits_of(block, nodes)
+def ordered_by(pairs, nodes):
+    """The new list of the nodes as they are done, by what `must` tells; None, where they can't be."""
+    waits = waits_of(pairs, nodes)
     settled = {}
     while len(settled) < len(nodes):
         node = next_node(nodes, waits, settled)
@@ -103,6 +102,11 @@ def ordered(block, plan):
             return None
         settled[node] = True
     return list(settled)
+
+
+def ordered(block, plan):
+    """The new list of the nodes as they are done; None, where the plan is not valid."""
+    return ordered_by(must_pairs(block), nodes_of(block, plan))
 
 
 def wished(block, plan):
@@ -162,13 +166,18 @@ def order(block, lanes, plan):
     return nodes
 
 
-def cost(block, lanes, plan):
-    """What a plan costs."""
-    check_plan(block, lanes, plan)
-    if ordered(block, plan) is None:
-        raise NotValid(plan)
+def plan_cost(block, lanes, plan):
+    """What `cost` tells, of what is known to be a valid plan."""
     alone = [row for row in rows_alone(block, plan) if block[1][row][0] != "number"]
     shuffled = wished_as(block, plan, "shuffled")
     gathered = wished_as(block, plan, "gathered")
     moved = len(shuffled) + lanes * len(gathered) + len(drawn_rows(block, plan))
     return len(alone) + len(plan) + moved
+
+
+def cost(block, lanes, plan):
+    """What a plan costs."""
+    check_plan(block, lanes, plan)
+    if ordered(block, plan) is None:
+        raise NotValid(plan)
+    return plan_cost(block, lanes, plan)

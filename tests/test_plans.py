@@ -8,7 +8,7 @@ from lanepacks.errors import NoBlock, NoLanes, NoPlan, NotValid
 from lanepacks.orders import must
 from lanepacks.plans import cost, is_plan, is_valid, order
 from lanepacks.words import DEEDS
-from things import ODD
+from things import NO_LANES, ODD, all_plans
 
 # Four cells are read, doubled and written: 4 loads, 4 sums, 4 stores.
 DOUBLED = (8, (
@@ -22,23 +22,6 @@ CROSSED = (4, (("load", 0), ("plus", 0, 0), ("minus", 1, 1), ("plus", 2, 2)))
 
 # The packs (1, 4) and (2, 3) wait for one another: 2 names 1, and 4 names 3.
 WAITING = (4, (("load", 0), ("plus", 0, 0), ("minus", 1, 0), ("minus", 0, 0), ("plus", 3, 0)))
-
-NO_LANES = ODD + [0, 1, 5, 6, -2, -4, 40, "2", b"2", (2,), [2]]
-
-
-def all_plans(block, lanes):
-    """All plans, by the words of [7], of a small block."""
-    tuples = itertools.combinations(range(len(block[1])), lanes)
-    packs = [rows for rows in tuples if is_plan(block, lanes, (rows,))]
-
-    def grown(plan):
-        yield plan
-        taken = set(itertools.chain(*plan))
-        for pack in packs:
-            if (not plan or pack > plan[-1]) and not taken & set(pack):
-                yield from grown(plan + (pack,))
-
-    return list(grown(()))
 
 
 def small_block(dice):
