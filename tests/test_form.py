@@ -31,6 +31,18 @@ NO_NODES = (
 )
 
 
+METHODS = set(
+    "append clear copy count endswith extend find get index insert isalnum isalpha isdigit islower isspace isupper items "
+    "join keys ljust lower lstrip partition pop remove replace reverse rfind rjust rpartition rsplit rstrip setdefault "
+    "split splitlines startswith strip update upper values zfill bit_length".split()
+)
+CHANGES = {"append", "clear", "extend", "insert", "pop", "remove", "reverse", "setdefault", "update", "sort", "add", "discard"}
+WALKED = {"zip", "enumerate", "reversed", "range"}
+WALKERS = {"list", "tuple", "dict", "sorted", "sum", "any", "all", "enumerate", "zip", "bytes", "min", "max"}
+KEYWORDS = {"sorted": {"key", "reverse"}, "min": {"key", "default"}, "max": {"key", "default"}, "sum": {"start"},
+            "enumerate": {"start"}, "zip": {"strict"}}
+
+
 def trees():
     for path in FILES:
         yield path, ast.parse(path.read_text(encoding="ascii"))
@@ -57,6 +69,19 @@ def names_of(node):
     if isinstance(node, ast.ExceptHandler) and node.name:
         return [node.name]
     return []
+
+
+def top_list(tree):
+    """The names that a file binds at its top, but those it draws in."""
+    for row in tree.body:
+        if isinstance(row, (ast.FunctionDef, ast.ClassDef)):
+            yield row.name
+        if isinstance(row, ast.Assign):
+            yield from [target.id for target in row.targets]
+
+
+def top_names(tree):
+    return set(top_list(tree))
 
 
 class Files(unittest.TestCase):
@@ -139,6 +164,126 @@ class Code(unittest.TestCase):
             for sign, right in zip(node.ops, node.comparators):
                 if isinstance(sign, (ast.Is, ast.IsNot)):
                     self.assertIn(getattr(right, "value", "else"), (None, True, False), where)
+
+    def test_imports_are_drawn_from_where_the_name_is_defined_and_not_round_about(self):
+        drawn = {}
+        for path, tree in trees():
+            rows = [node for node in tree.body if isinstance(node, ast.ImportFrom)]
+            drawn[path.stem] = {row.module.split(".")[1] for row in rows}
+            for row in rows:
+                there = ast.parse((PACKAGE / f"{row.module.split('.')[1]}.py").read_text(encoding="ascii"))
+                self.assertLessEqual({alias.name for alias in row.names}, top_names(there), f"{path.name}: {row.module}")
+        for name in drawn:
+            reached, grown = set(), drawn[name]
+            while grown != reached:
+                reached, grown = grown, grown.union(*[drawn[other] for other in grown])
+            self.assertNotIn(name, reached)
+
+    def test_each_name_is_bound_once_at_a_files_top(self):
+        for path, tree in trees():
+            names = [alias.name for row in tree.body if isinstance(row, ast.ImportFrom) for alias in row.names]
+            names += list(top_list(tree))
+            self.assertEqual(len(names), len(set(names)), path.name)
+
+    def test_locals_are_called_unlike_imports_and_classes(self):
+        for path, tree in trees():
+            taken = {alias.name for row in tree.body if isinstance(row, ast.ImportFrom) for alias in row.names}
+            taken |= {row.name for row in tree.body if isinstance(row, ast.ClassDef)}
+            for node in ast.walk(tree):
+                if isinstance(node, ast.arg):
+                    self.assertNotIn(node.arg, taken, f"{path.name}:{node.lineno}")
+                if isinstance(node, ast.Name) and isinstance(node.ctx, ast.Store):
+                    self.assertNotIn(node.id, taken, f"{path.name}:{node.lineno}")
+
+    def test_methods_and_values_of_objects(self):
+        methods, values = set(), set()
+        for path, tree in trees():
+            for holder in ast.walk(tree):
+                if isinstance(holder, ast.ClassDef):
+                    methods |= {row.name for row in holder.body if isinstance(row, ast.FunctionDef)}
+        for path, tree in trees():
+            for node in ast.walk(tree):
+                if isinstance(node, ast.Attribute) and isinstance(node.ctx, ast.Store):
+                    values.add(node.attr)
+        for path, tree in trees():
+            calls = {id(node.func) for node in ast.walk(tree) if isinstance(node, ast.Call)}
+            for node in ast.walk(tree):
+                if isinstance(node, ast.Attribute) and isinstance(node.ctx, ast.Load):
+                    where = f"{path.name}:{node.lineno}: {node.attr}"
+                    if id(node) in calls:
+                        self.assertIn(node.attr, METHODS | methods, where)
+                    else:
+                        self.assertIn(node.attr, values, where)
+        self.assertEqual(methods & values, set())
+        own = set()
+        for kind in (str, int, list, dict, set, bytes, tuple):
+            own |= set(dir(kind))
+        self.assertLessEqual((methods | values) & own, DOUBLE)
+
+    def test_what_is_walked_at_once(self):
+        for path, tree in trees():
+            good = set()
+            for node in ast.walk(tree):
+                if isinstance(node, (ast.For, ast.comprehension)):
+                    good.add(id(node.iter))
+                if isinstance(node, ast.Call) and isinstance(node.func, ast.Name) and node.func.id in WALKERS:
+                    good |= {id(given) for given in (node.args if node.func.id == "zip" else node.args[:1])}
+                if isinstance(node, ast.Call) and isinstance(node.func, ast.Name) and node.func.id == "reversed":
+                    good |= {id(given) for given in node.args if isinstance(given, ast.Call) and given.func.id == "range"}
+            for node in ast.walk(tree):
+                if isinstance(node, ast.Call) and isinstance(node.func, ast.Name) and node.func.id in WALKED:
+                    self.assertIn(id(node), good, f"{path.name}:{node.lineno}")
+                if isinstance(node, ast.Call) and getattr(node.func, "attr", "") in ("items", "keys", "values"):
+                    self.assertIn(id(node), good, f"{path.name}:{node.lineno}")
+
+    def test_what_a_loop_walks_is_not_changed_in_it(self):
+        for where, loop in nodes(ast.For):
+            walked = {ast.unparse(node) for node in ast.walk(loop.iter) if isinstance(node, (ast.Name, ast.Attribute))}
+            for row in loop.body:
+                for node in ast.walk(row):
+                    if isinstance(node, ast.Call) and getattr(node.func, "attr", "") in CHANGES:
+                        self.assertNotIn(ast.unparse(node.func.value), walked, where)
+                    if isinstance(node, (ast.Name, ast.Attribute, ast.Subscript)) and isinstance(node.ctx, ast.Store):
+                        given = node.value if isinstance(node, ast.Subscript) else node
+                        self.assertNotIn(ast.unparse(given), walked, where)
+
+    def test_sets_are_only_counted_sorted_or_asked(self):
+        for path, tree in trees():
+            good = set()
+            for node in ast.walk(tree):
+                if isinstance(node, ast.Call) and isinstance(node.func, ast.Name) and node.func.id in ("len", "sorted"):
+                    good |= {id(given) for given in node.args}
+                if isinstance(node, ast.Compare):
+                    good |= {id(given) for given in node.comparators}
+            for node in ast.walk(tree):
+                made = isinstance(node, ast.Call) and isinstance(node.func, ast.Name) and node.func.id in ("set", "frozenset")
+                if made or isinstance(node, (ast.Set, ast.SetComp)):
+                    self.assertIn(id(node), good, f"{path.name}:{node.lineno}")
+
+    def test_keywords_at_pythons_own(self):
+        for where, node in nodes(ast.Call):
+            own = isinstance(node.func, ast.Name) and node.func.id in OWN_NAMES
+            if own or (isinstance(node.func, ast.Attribute) and node.func.attr in METHODS):
+                allowed = KEYWORDS.get(getattr(node.func, "id", ""), set())
+                self.assertLessEqual({keyword.arg for keyword in node.keywords}, allowed, where)
+
+    def test_errors(self):
+        for where, node in nodes(ast.Raise):
+            self.assertIsInstance(node.exc, ast.Call, where)
+            self.assertIsInstance(node.exc.func, ast.Name, where)
+        for where, node in nodes(ast.Try):
+            self.fail(f"{where}: look at L19")
+
+    def test_methods_with_two_underscores(self):
+        ends = {"__len__": ("len(",), "__str__": ("' '.join(",), "__eq__": ("",), "__init__": ()}
+        for where, node in nodes(ast.FunctionDef):
+            if node.name.startswith("__"):
+                self.assertIn(node.name, ends, where)
+                for row in ast.walk(node):
+                    if isinstance(row, ast.Return):
+                        self.assertTrue(ast.unparse(row.value).startswith(ends[node.name]), where)
+                    if node.name != "__init__":
+                        self.assertNotIsInstance(row, (ast.Assign, ast.AugAssign, ast.Delete), where)
 
     def test_texts(self):
         for where, node in nodes(ast.Constant):
